@@ -1,0 +1,1 @@
+"""Maymeet: rows of people who may change places at told meetings."""
