@@ -32,17 +32,16 @@ def is_row(thing):
     return sorted(thing) == list(range(len(thing)))
 
 
-def is_book(thing, many):
-    """Tell of anything whether it is a book of so many people."""
-    if not is_many(many) or not isinstance(thing, tuple):
-        return False
-    return all(is_gap(gap, many) for gap in thing)
-
-
 def check_many(many):
     """Refuse what is no number of people."""
     if not is_many(many):
         raise NoMany()
+
+
+def is_book(thing, many):
+    """Tell of anything whether it is a book of so many people."""
+    check_many(many)
+    return isinstance(thing, tuple) and all(is_gap(gap, many) for gap in thing)
 
 
 def check_row(row):
@@ -52,8 +51,7 @@ def check_row(row):
 
 
 def check_book(book, many):
-    """Refuse, behind a wrong number of people, what is no book of so many."""
-    check_many(many)
+    """Refuse a wrong number of people, as is_book does, and behind it what is no book of so many."""
     if not is_book(book, many):
         raise NoBook()
 

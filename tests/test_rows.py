@@ -40,7 +40,7 @@ class IsRow(unittest.TestCase):
         self.assertIs(is_book(thing, 3), False)
 
 
-class IsBook(unittest.TestCase):
+class IsBook(Refusing, unittest.TestCase):
     def test_books(self):
         for many in range(2, 10):
             self.assertIs(is_book((), many), True)
@@ -64,11 +64,11 @@ class IsBook(unittest.TestCase):
             with self.subTest(thing=repr(thing)[:80]):
                 self.assertIs(is_book(thing, 3), False)
 
-    def test_no_number_of_people(self):
+    def test_no_number_of_people_is_refused_whatever_the_thing_is(self):
         for many in NO_MANY:
-            for thing in [(), (0,), (1, 0), None, [], 0]:
-                with self.subTest(thing=thing, many=repr(many)):
-                    self.assertIs(is_book(thing, many), False)
+            for thing in [(), (0,), (1, 0), *NO_BOOK]:
+                self.refused(NoMany, is_book, thing, many)
+            self.refused(NoMany, is_book, many=many, thing=())
 
 
 class RowOf(Refusing, unittest.TestCase):

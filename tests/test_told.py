@@ -7,6 +7,7 @@ import unittest
 from maymeet import goings as goings_file
 from maymeet import lets as lets_file
 from maymeet import rows as rows_file
+from maymeet.errors import NoMany
 
 INTERFACE = {
     "rows": {
@@ -125,7 +126,8 @@ class OwnLists(unittest.TestCase):
             before = repr(thing)
             rows_file.is_row(thing)
             rows_file.is_book(thing, 3)
-            rows_file.is_book((), thing)
+            with self.assertRaises(NoMany):
+                rows_file.is_book((), thing)
             rows_file.is_row((thing, 0))
             self.assertEqual(repr(thing), before)
         for call, named, _ in NAMED:
