@@ -3,7 +3,7 @@
 from itertools import zip_longest
 
 from maymeet.errors import NoNumber
-from maymeet.rows import check_book, check_book_and_row, check_few, is_whole, row_of, swapped
+from maymeet.rows import check_book, check_book_and_row, check_few, check_number, row_of, swapped
 
 # Goings are counted row by row, for there may be 2 ** 60 of them, but at most 720 rows.
 
@@ -77,8 +77,7 @@ def by_changes(book, row):
 def nth(book, row, number):
     """Tell the number-th, from 0, of the goings that lead to the row."""
     check_book_and_row(book, row)
-    if not is_whole(number) or number < 0:
-        raise NoNumber()
+    check_number(number)
     check_few(len(row))
     ways = ways_behind(book, row)
     here = row_of(len(row))

@@ -8,14 +8,18 @@ def lesser_ahead(row, gap):
     return row[gap] < row[gap + 1]
 
 
-def farthest(book, many):
-    """Tell the row that comes where the two always change when the lesser stands ahead."""
-    check_book(book, many)
-    row = row_of(many)
+def farthest_from(row, book):
+    """Tell the row to which always changing where the lesser stands ahead leads from the row."""
     for gap in book:
         if lesser_ahead(row, gap):
             row = swapped(row, gap)
     return row
+
+
+def farthest(book, many):
+    """Tell the row that comes where the two always change when the lesser stands ahead."""
+    check_book(book, many)
+    return farthest_from(row_of(many), book)
 
 
 def lets(book, row):

@@ -1,6 +1,6 @@
 """Rows of people, books of meetings, goings through a book, and the corners of a row."""
 
-from maymeet.errors import NoBook, NoGap, NoGoing, NoMany, NoRow, TooMany, Unlike
+from maymeet.errors import NoBook, NoGap, NoGoing, NoMany, NoNumber, NoRow, TooMany, Unlike
 
 MOST_PEOPLE = 9
 MOST_GONE_THROUGH = 6
@@ -70,10 +70,22 @@ def check_rows(row, other):
         raise Unlike()
 
 
+def check_number(number):
+    """Refuse what is no whole number from 0 on."""
+    if not is_whole(number) or number < 0:
+        raise NoNumber()
+
+
 def check_few(many):
     """Refuse more people than all of whose rows may be gone through."""
     if many > MOST_GONE_THROUGH:
         raise TooMany(many)
+
+
+def check_row_of_few(row):
+    """Refuse what is no row, or one of too many people."""
+    check_row(row)
+    check_few(len(row))
 
 
 def row_of(many):

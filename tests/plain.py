@@ -21,6 +21,24 @@ NO_BOOK = [
     ((0,),), ([0],), (0, (1,)), (0, None), (0,) * 60 + (2,),
 ]
 
+# None of these is a weight.
+NO_WEIGHT = [
+    None, True, False, 0, 1, 1.5, "", "1", b"\x01", (), (1,), (0, 1), {}, {0: 1}, {1}, range(1), object(), len,
+    [0], [1, 0], [0, 0], [True], [False], [0, True], [True, 1], [1, False], [1.0], [1, 2.5], ["1"], [None], [[]], [[1]],
+    [(1,)], [1, None], [1, [1]],
+]
+
+# None of these is a table.
+NO_TABLE = [
+    None, True, False, 0, 1, 1.5, "", "01", b"\x01", (), {}, {(0, 1): [1]}, {1}, range(1), object(), len,
+    [], [None], [1], [()], [[]], ["01"], [(0, 1)], [((0, 1),)], [[(0, 1), [1]]], (((0, 1), [1]),), [((0, 1), [1], 1)],
+    [((0, 1), 1)], [((0, 1), (1,))], [([0, 1], [1])], [((0, 2), [1])], [((), [1])], [((0, True), [1])], [([1], (0, 1))],
+    [((0, 1), [1]), ((0, 1), [1])], [((1, 0), [1]), ((0, 1), [1])], [((0,), [1]), ((0, 1), [1])],
+    [((0, 1), [1]), ((1, 0, 2), [1])], [((0, 1), [1]), None], [((0, 1), [1]), ((1, 0), [])],
+    [((0, 1, 2), [1]), ((2, 0, 1), [1]), ((1, 0, 2), [1])], [((0, 1, 2), [1]), ((1, 0, 2), [1]), ((1, 0, 2), [2])],
+    [((0, 1, 2, 3, 4, 5, 6, 7, 8, 9), [1])], [((0, 1), []), ((1, 0), [1])], *([((0, 1), weight)] for weight in NO_WEIGHT),
+]
+
 # None of these is a going through a book of two meetings.
 NO_GOING = [
     None, True, False, 0, 2, "x.", "", b"xx", [], [True, False], {}, {True: False}, {True}, range(2), object(), len,
@@ -60,8 +78,21 @@ def by_row(book, many):
     return told
 
 
+def gone_rows(book, many):
+    """The set of all rows that come at the end of some going."""
+    return set(by_row(book, many))
+
+
 def turned_pairs(row):
     return sum(1 for one, two in itertools.combinations(row, 2) if one > two)
+
+
+def plain_farthest(book, many):
+    row = tuple(range(many))
+    for gap in book:
+        if row[gap] < row[gap + 1]:
+            row = exchanged(row, gap)
+    return row
 
 
 def corner(row, i, j):
@@ -73,6 +104,27 @@ def least_unlike(row, other):
     people = range(len(row) + 1)
     unlike = [(i, j) for i in people for j in people if corner(row, i, j) > corner(other, i, j)]
     return min(unlike, default=None)
+
+
+def is_below(row, other):
+    return least_unlike(row, other) is None
+
+
+def all_below(many):
+    """The set of all pairs (row, other) of rows of so many people, the one below the other."""
+    rows = all_rows(many)
+    return {(row, other) for row in rows for other in rows if is_below(row, other)}
+
+
+def shortest_books(many):
+    """All shortest books of each row, rising."""
+    told = {}
+    for meetings in range(many * (many - 1) // 2 + 1):
+        for book in all_books(many, meetings):
+            row = plain_farthest(book, many)
+            if turned_pairs(row) == meetings:
+                told.setdefault(row, []).append(book)
+    return told
 
 
 def meetings_of(going):

@@ -5,28 +5,16 @@ import unittest
 from maymeet.errors import NoBook, NoMany, NoRow
 from maymeet.lets import farthest, fewest, kept, lets, needless, same, why_not
 from maymeet.rows import gone, turned
-from tests.plain import (NO_BOOK, NO_MANY, NO_ROW, Refusing, Within, all_books, all_rows, by_row, exchanged,
-                         least_unlike, meetings_of, mixed_books, small_books, small_cases, turned_pairs)
+from tests.plain import (NO_BOOK, NO_MANY, NO_ROW, Refusing, Within, all_books, all_rows, gone_rows, least_unlike,
+                         meetings_of, mixed_books, plain_farthest, small_books, small_cases, turned_pairs)
 
 NINE = (0, 1, 2, 3, 4, 5, 6, 7, 8)
-
-
-def plain_farthest(book, many):
-    row = tuple(range(many))
-    for gap in book:
-        if row[gap] < row[gap + 1]:
-            row = exchanged(row, gap)
-    return row
 
 
 def plain_fewest(goings):
     """The least list of meetings among the goings with the fewest changes."""
     least = min(sum(going) for going in goings)
     return min(meetings_of(going) for going in goings if sum(going) == least)
-
-
-def let_rows(book, many):
-    return set(by_row(book, many))
 
 
 def left_out(book, meeting):
@@ -110,7 +98,7 @@ class SmallCases(unittest.TestCase):
     def test_same(self):
         for many, meetings in [(2, 4), (3, 4), (4, 3)]:
             books = [book for long in range(meetings + 1) for book in all_books(many, long)]
-            let = {book: let_rows(book, many) for book in books}
+            let = {book: gone_rows(book, many) for book in books}
             for book in books:
                 for other in books:
                     self.assertIs(same(book, other, many), let[book] == let[other])
@@ -119,8 +107,8 @@ class SmallCases(unittest.TestCase):
         for many in range(1, 5):
             books = [book for book in small_books(many) if len(book) <= 4] + (mixed_books(many, 8, 5) if many > 1 else [])
             for book in books:
-                let = let_rows(book, many)
-                alone = [k for k in range(len(book)) if let_rows(left_out(book, k), many) == let]
+                let = gone_rows(book, many)
+                alone = [k for k in range(len(book)) if gone_rows(left_out(book, k), many) == let]
                 self.assertEqual(needless(book, many), alone)
 
     def test_kept(self):
