@@ -62,6 +62,12 @@ def check_book_and_row(book, row):
     check_book(book, len(row))
 
 
+def check_gap(gap, many):
+    """Refuse what is no gap of a row of so many people."""
+    if not is_gap(gap, many):
+        raise NoGap()
+
+
 def check_rows(row, other):
     """Refuse what is no row, then rows of other many people."""
     check_row(row)
@@ -109,8 +115,7 @@ def swapped(row, gap):
 def changed(row, gap):
     """Tell the row with the two beside the gap exchanged."""
     check_row(row)
-    if not is_gap(gap, len(row)):
-        raise NoGap()
+    check_gap(gap, len(row))
     return swapped(row, gap)
 
 

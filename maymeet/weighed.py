@@ -2,10 +2,10 @@
 
 from itertools import zip_longest
 
-from maymeet.errors import NoGap, NoNumber, NoTable
+from maymeet.errors import NoNumber, NoTable
 from maymeet.exchanges import shortest
 from maymeet.lets import lesser_ahead
-from maymeet.rows import check_book, check_few, is_gap, is_row, is_whole, row_of, swapped
+from maymeet.rows import check_book, check_few, check_gap, is_row, is_whole, row_of, swapped
 
 
 def is_weight(thing):
@@ -98,8 +98,7 @@ def met(table, gap):
     """Tell the table behind one meeting more."""
     check_table(table)
     many = len(table[0][0])
-    if not is_gap(gap, many):
-        raise NoGap()
+    check_gap(gap, many)
     check_few(many)
     return table_of(met_on({row: weight for row, weight in table}, gap))
 

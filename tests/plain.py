@@ -131,17 +131,19 @@ def meetings_of(going):
     return [k for k, change in enumerate(going) if change]
 
 
+def mixed_numbers(seed, count):
+    """So many mixed numbers: ever the same ones of one seed."""
+    numbers = []
+    for _ in range(count):
+        seed = (seed * 1103515245 + 12345) % 2 ** 31
+        numbers.append(seed >> 16)
+    return numbers
+
+
 def mixed_books(many, meetings, count):
     """Some mixed books of so many meetings: ever the same ones."""
-    state = 12345 + many * 100 + meetings
-    books = []
-    for _ in range(count):
-        gaps = []
-        for _ in range(meetings):
-            state = (state * 1103515245 + 12345) % 2 ** 31
-            gaps.append((state >> 16) % (many - 1))
-        books.append(tuple(gaps))
-    return books
+    numbers = mixed_numbers(12345 + many * 100 + meetings, meetings * count)
+    return [tuple(number % (many - 1) for number in numbers[k * meetings:(k + 1) * meetings]) for k in range(count)]
 
 
 def small_books(many):

@@ -5,11 +5,15 @@ import inspect
 import unittest
 
 from maymeet import between as between_file
+from maymeet import desk as desk_file
 from maymeet import exchanges as exchanges_file
 from maymeet import goings as goings_file
+from maymeet import kinds as kinds_file
+from maymeet import leftout as leftout_file
 from maymeet import lets as lets_file
 from maymeet import products as products_file
 from maymeet import rows as rows_file
+from maymeet import texts as texts_file
 from maymeet import weighed as weighed_file
 from maymeet.errors import NoMany
 
@@ -43,6 +47,24 @@ INTERFACE = {
         "between": ["low", "high"], "above": ["row"], "counted": ["row"], "least_above": ["row", "other"],
         "greatest_below": ["row", "other"], "chain": ["low", "high"], "evenly": ["row"],
     },
+    "kinds": {
+        "kinds_let": ["book", "first", "kinds"], "kinds_farthest": ["book", "first"], "far_rows": ["book", "many"],
+        "far_fails": ["book", "many"],
+    },
+    "leftout": {
+        "greatest_left": ["book", "row", "most"], "led_left": ["book", "row", "leaving", "other", "most"],
+        "in_place": ["book", "row", "leaving", "meeting"], "is_left": ["book", "row", "leaving"],
+    },
+    "texts": {
+        "show_row": ["row"], "show_book": ["book", "many"], "show_going": ["going"], "show_weight": ["weight"],
+        "show_table": ["table"], "read_row": ["text"], "read_book": ["text"], "read_going": ["text"],
+        "read_weight": ["text"], "read_table": ["text"],
+    },
+}
+
+DESK = {
+    "put": ["place", "gap"], "take": ["place"], "turn": ["place", "gap"], "book": [], "farthest": [], "lets": ["row"],
+    "news": [], "looked": [],
 }
 
 BOOK = (0, 1, 0, 2, 1)
@@ -96,6 +118,24 @@ NAMED = [
     (between_file.evenly, {"row": (0, 3, 4, 1, 2)}, (1, 2, 3, 4)),
     (between_file.least_above, {"other": (1, 0, 2), "row": (0, 2, 1)}, [(1, 2, 0), (2, 0, 1)]),
     (between_file.greatest_below, {"other": (2, 0, 1), "row": (1, 2, 0)}, [(0, 2, 1), (1, 0, 2)]),
+    (kinds_file.kinds_let, {"kinds": (1, 0, 0), "first": (0, 0, 1), "book": (1, 0)}, True),
+    (kinds_file.kinds_farthest, {"first": (0, 1, 1, 4), "book": BOOK}, (1, 4, 1, 0)),
+    (kinds_file.far_rows, {"many": 3, "book": ((0, 2),)}, [(0, 1, 2), (2, 1, 0)]),
+    (kinds_file.far_fails, {"many": 3, "book": ((0, 2),)}, ((0, 2, 1), (2, 1, 0))),
+    (leftout_file.greatest_left, {"most": 2, "row": ROW, "book": BOOK}, [(0, 1, 4), (1, 2, 4)]),
+    (leftout_file.led_left, {"most": 2, "other": (1, 2, 4), "leaving": (0, 1, 4), "row": ROW, "book": BOOK}, [(0, 2)]),
+    (leftout_file.in_place, {"meeting": 0, "leaving": (0, 1, 4), "row": ROW, "book": BOOK}, 2),
+    (leftout_file.is_left, {"leaving": (0, 4), "row": ROW, "book": BOOK}, True),
+    (texts_file.show_row, {"row": ROW}, "1 0 3 2"),
+    (texts_file.show_book, {"many": 4, "book": BOOK}, "4:0,1,0,2,1"),
+    (texts_file.show_going, {"going": (True, False)}, "x."),
+    (texts_file.show_weight, {"weight": [1, -2, 1]}, "q^2-2q+1"),
+    (texts_file.show_table, {"table": TABLE}, "0 1=q-1;1 0=1"),
+    (texts_file.read_row, {"text": "1 0 3 2"}, ROW),
+    (texts_file.read_book, {"text": "4:0,1,0,2,1"}, (BOOK, 4)),
+    (texts_file.read_going, {"text": "x."}, (True, False)),
+    (texts_file.read_weight, {"text": "q^2-2q+1"}, [1, -2, 1]),
+    (texts_file.read_table, {"text": "0 1=q-1;1 0=1"}, TABLE),
 ]
 
 
@@ -120,8 +160,19 @@ class Interface(unittest.TestCase):
                     self.assertEqual(told.__module__, f"maymeet.{name}")
                     signature = inspect.signature(told)
                     self.assertEqual(list(signature.parameters), names)
-                    kinds = {parameter.kind for parameter in signature.parameters.values()}
-                    self.assertEqual(kinds, {inspect.Parameter.POSITIONAL_OR_KEYWORD})
+                    for parameter in signature.parameters.values():
+                        by_name_alone = parameter.name == "most"
+                        kind = inspect.Parameter.KEYWORD_ONLY if by_name_alone else inspect.Parameter.POSITIONAL_OR_KEYWORD
+                        self.assertEqual(parameter.kind, kind)
+                        self.assertEqual(parameter.default, 1000 if by_name_alone else inspect.Parameter.empty)
+
+    def test_the_desk_has_its_methods_itself(self):
+        self.assertEqual(desk_file.Desk.__module__, "maymeet.desk")
+        self.assertEqual(list(inspect.signature(desk_file.Desk).parameters), ["many"])
+        for method, names in DESK.items():
+            told = vars(desk_file.Desk)[method]
+            self.assertEqual(list(inspect.signature(told).parameters), ["self", *names])
+        self.assertEqual(sorted(name for name in vars(desk_file.Desk) if not name.startswith("_")), sorted(DESK))
 
     def test_each_function_is_asked_by_names_here(self):
         asked = sorted(call.__name__ for call, _, _ in NAMED)
@@ -136,7 +187,7 @@ class Interface(unittest.TestCase):
     def test_arguments_by_place(self):
         for call, named, told in NAMED:
             with self.subTest(call=call.__name__):
-                placed = [named[name] for name in inspect.signature(call).parameters]
+                placed = [named[name] for name in inspect.signature(call).parameters if name != "most"]
                 self.assertEqual(call(*placed), told)
 
 
@@ -209,6 +260,29 @@ class OwnLists(unittest.TestCase):
         self.assertEqual(table, weighed_file.weigh(BOOK + (2,), 4))
         self.assertEqual([weighed_file.at(weight, 0) for _, weight in table],
                          [worth for _, worth in weighed_file.table_at(table, 0)])
+
+    def test_what_is_told_may_be_handed_in_further_on(self):
+        book, many = texts_file.read_book(texts_file.show_book(BOOK, 4))
+        far = kinds_file.kinds_farthest(book, (0, 1, 1, 2))
+        self.assertIs(kinds_file.kinds_let(book, (0, 1, 1, 2), far), True)
+        for leaving in leftout_file.greatest_left(book, ROW):
+            for meeting in leaving:
+                other = leftout_file.in_place(book, ROW, leaving, meeting)
+                if other is not None:
+                    there = tuple(sorted({*leaving, other} - {meeting}))
+                    self.assertEqual(leftout_file.led_left(book, ROW, leaving, there), [(meeting, other)])
+        row, other = kinds_file.far_fails(((0, 2),), 3)
+        self.assertIs(rows_file.below(row, other), True)
+        desk = desk_file.Desk(many)
+        for place, gap in enumerate(book):
+            desk.put(place, gap)
+        self.assertEqual(lets_file.farthest(desk.book(), many), desk.farthest())
+        desk.turn(leftout_file.in_place(book, ROW, (0, 1, 4), 0), 1)
+        self.assertEqual(texts_file.read_row(texts_file.show_row(desk.farthest())), lets_file.farthest((0, 1, 1, 2, 1), 4))
+        table = texts_file.read_table(texts_file.show_table(weighed_file.weigh(desk.book(), many)))
+        self.assertEqual(weighed_file.met(table, 0), weighed_file.weigh((0, 1, 1, 2, 1, 0), 4))
+        going = goings_file.nth(BOOK, ROW, 0)
+        self.assertEqual(texts_file.read_going(texts_file.show_going(going)), going)
 
 
 if __name__ == "__main__":
